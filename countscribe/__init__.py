@@ -1,0 +1,1 @@
+"""countscribe: texts with open counts, and what is true of them for all counts."""

@@ -1,0 +1,40 @@
+"""Lists of pieces and the normal one of those that write the same."""
+
+from countscribe.checks import need_many
+from countscribe.errors import InvalidPiece, InvalidPieces, TooLong
+from countscribe.piecetools import MOST_MEASURE, MOST_PIECES, is_piece, measure, normal_pieces
+
+
+def need_pieces(many, pieces):
+    """Refuse what is no list of pieces for a number of unknowns, or one of too great a measure."""
+    need_many(many)
+    if not isinstance(pieces, list) or len(pieces) > MOST_PIECES:
+        raise InvalidPieces(pieces)
+    for item in pieces:
+        if not is_piece(many, item):
+            raise InvalidPiece(item)
+    need_measure(pieces)
+
+
+def need_measure(pieces):
+    """Refuse a list of pieces of too great a measure."""
+    size = measure(pieces)
+    if size > MOST_MEASURE:
+        raise TooLong(size)
+
+
+def normal(many, pieces):
+    """The normal list that writes the same word as a list of pieces at every point."""
+    need_pieces(many, pieces)
+    return normal_pieces(pieces)
+
+
+def is_normal(many, value):
+    """Whether a value is a normal list of pieces for `many` unknowns."""
+    need_many(many)
+    if not isinstance(value, list) or len(value) > MOST_PIECES:
+        return False
+    if not all([is_piece(many, item) for item in value]) or measure(value) > MOST_MEASURE:
+        return False
+    # For each list there is exactly one normal list that writes the same.
+    return normal_pieces(value) == value

@@ -1,0 +1,102 @@
+"""What the tests share: values of every kind, checks of errors, and the examples of the document."""
+
+import ast
+import random
+
+from countscribe import errors
+from countscribe.kept import KeptWord
+
+# No call may take any of these for a word, a list, a form, an object of another class and so on, unless it is one.
+FAR = 10 ** 30
+
+
+def strange_values():
+    """Values of every kind; each test leaves out those that its argument may have."""
+    return [
+        None, True, False, -1, 0, 1, 7, -10 ** 39, 10 ** 39, 10 ** 44,
+        "", "a", "abc", "A", "aB", "a b", "a1", "1", " ", "a\n", "\x00", "a" * 20001,
+        [], [0], [1], [0, 0], [True], [None], ["a"], [""], [[]], [()], [("a", 1)], [("a", (1,))], [-1],
+        (), (0,), (1,), (0, 0), (0, 1), (1, 0, 0), (0, 1, 2, 3), (0, 1, 2, 3, 4), (True,), (0, True), (-1, 0), (None,),
+        ("a",), ("a", 1), ("a", (1,)), ("a", "a"), ((), ()), ([], []),
+        {}, {"a": "b"}, {"a": 1}, {1: "a"}, {"": ""}, {(0, 1): []},
+        KeptWord([]), KeptWord([("ab", FAR)]), errors.InvalidWord("a"), errors.NothingToUndo(),
+    ]
+
+
+def kind_of(value):
+    """A value's kind, for messages."""
+    text = repr(value)
+    return text if len(text) < 80 else text[:80] + ".."
+
+
+def told(test, name, field, call, *arguments, **named):
+    """Check that a call raises just this error, with this very object as its field."""
+    try:
+        result = call(*arguments, **named)
+    except errors.CountError as error:
+        test.assertEqual(error.__class__.__name__, name, kind_of(arguments))
+        test.assertEqual(error.args, (error.value,))
+        if isinstance(field, int) and not isinstance(field, bool):
+            test.assertEqual(error.value, field)
+            test.assertNotIsInstance(error.value, bool)
+        else:
+            test.assertIs(error.value, field, kind_of(arguments))
+        return
+    test.fail("%s returned %s instead of raising %s" % (kind_of(arguments), kind_of(result), name))
+
+
+def refused(test, name, allowed, call):
+    """Check that a call with one argument refuses every strange value that is not allowed."""
+    for value in strange_values():
+        if not allowed(value):
+            told(test, name, value, call, value)
+
+
+def answered_false(test, allowed, call):
+    """Check that a call that tells something says False to every strange value that is not allowed."""
+    for value in strange_values():
+        if not allowed(value):
+            test.assertIs(call(value), False, kind_of(value))
+
+
+def is_number(value, low, high):
+    """Whether a value is a whole number with these bounds."""
+    return isinstance(value, int) and not isinstance(value, bool) and low <= value <= high
+
+
+def run_example(test, text):
+    """Run an example of the document: each expression must have the value in the comment below it."""
+    names = {}
+    lines = text.strip().split("\n")
+    many = 0
+    for at, line in enumerate(lines):
+        if line.startswith("#") or not line.strip():
+            continue
+        behind = lines[at + 1] if at + 1 < len(lines) else ""
+        if behind.startswith("#"):
+            value = eval(compile(line, "example", "eval"), names)
+            test.assertEqual(value, ast.literal_eval(behind[1:].strip()), line)
+            test.assertEqual(repr(value), repr(ast.literal_eval(behind[1:].strip())), line)
+            many += 1
+        else:
+            exec(compile(line, "example", "exec"), names)
+    test.assertGreater(many, 0)
+
+
+def small_words(letters, most):
+    """All words of some letters up to a length."""
+    found = [""]
+    for word in found:
+        if len(word) < most:
+            found.extend([word + letter for letter in letters])
+    return found
+
+
+def chances(number):
+    """A source of numbers that gives the same ones each time."""
+    return random.Random(number)
+
+
+def some_word(chance, letters, low, high):
+    """A word of some letters, of a length between two bounds."""
+    return "".join([chance.choice(letters) for _ in range(chance.randint(low, high))])
