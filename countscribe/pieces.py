@@ -13,14 +13,13 @@ def need_pieces(many, pieces):
     for item in pieces:
         if not is_piece(many, item):
             raise InvalidPiece(item)
-    need_measure(pieces)
+    need_measure(measure(pieces))
 
 
-def need_measure(pieces):
-    """Refuse a list of pieces of too great a measure."""
-    size = measure(pieces)
-    if size > MOST_MEASURE:
-        raise TooLong(size)
+def need_measure(total):
+    """Refuse a measure that is too great."""
+    if total > MOST_MEASURE:
+        raise TooLong(total)
 
 
 def normal(many, pieces):

@@ -2,9 +2,12 @@
 
 import ast
 import random
+from itertools import product
 
 from countscribe import errors
 from countscribe.kept import KeptWord
+from countscribe.pieces import normal
+from countscribe.texts import OpenText
 
 # No call may take any of these for a word, a list, a form, an object of another class and so on, unless it is one.
 FAR = 10 ** 30
@@ -19,7 +22,7 @@ def strange_values():
         (), (0,), (1,), (0, 0), (0, 1), (1, 0, 0), (0, 1, 2, 3), (0, 1, 2, 3, 4), (True,), (0, True), (-1, 0), (None,),
         ("a",), ("a", 1), ("a", (1,)), ("a", "a"), ((), ()), ([], []),
         {}, {"a": "b"}, {"a": 1}, {1: "a"}, {"": ""}, {(0, 1): []},
-        KeptWord([]), KeptWord([("ab", FAR)]), errors.InvalidWord("a"), errors.NothingToUndo(),
+        KeptWord([]), KeptWord([("ab", FAR)]), OpenText(0, []), OpenText(1, [("ab", (1, FAR))]), errors.InvalidWord("a"), errors.NothingToUndo(),
     ]
 
 
@@ -100,3 +103,60 @@ def chances(number):
 def some_word(chance, letters, low, high):
     """A word of some letters, of a length between two bounds."""
     return "".join([chance.choice(letters) for _ in range(chance.randint(low, high))])
+
+
+def some_pieces(chance, many, most, letters="ab"):
+    """A list of pieces with small words and numbers."""
+    found = []
+    for _ in range(chance.randint(0, most)):
+        form = tuple([chance.choice([0, 0, 0, 1, 2]) for _ in range(many + 1)])
+        found.append((some_word(chance, letters, 0, chance.choice([1, 2, 4])), form))
+    return found
+
+
+def some_text(chance, many, most, letters="ab"):
+    """An open text with small words and numbers."""
+    return OpenText(many, some_pieces(chance, many, most, letters))
+
+
+def word_at(pieces, point):
+    """What a list of pieces writes at a point."""
+    return "".join([word * value_at(form, point) for word, form in pieces])
+
+
+def value_at(form, point):
+    """The value of a form at a point."""
+    return form[0] + sum([number * count for number, count in zip(form[1:], point)])
+
+
+def all_points(many, most):
+    """All points whose counts are at most a number."""
+    return [list(point) for point in product(range(most + 1), repeat=many)]
+
+
+def length_of(pieces, many):
+    """The length of what a list of pieces writes, as a form."""
+    return tuple([sum([len(word) * form[k] for word, form in pieces]) for k in range(many + 1)])
+
+
+def texts_within(many, most, letters):
+    """All open texts whose length is at most a form, by their length."""
+    found = {}
+    rows = [[]]
+    one = (1,) + (0,) * many
+    seen = {repr([])}
+    for row in rows:
+        own = length_of(row, many)
+        found.setdefault(own, []).append(OpenText(many, row))
+        rest = [top - number for top, number in zip(most, own)]
+        steps = [(letter, one) for letter in letters] if rest[0] else []
+        for word in small_words(letters, max(rest[1:], default=0)):
+            if word:
+                for form in product(*[range(number // len(word) + 1) for number in rest[1:]]):
+                    steps.append((word, (0,) + form))
+        for step in steps:
+            made = normal(many, row + [step])
+            if repr(made) not in seen:
+                seen.add(repr(made))
+                rows.append(made)
+    return found

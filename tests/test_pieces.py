@@ -4,7 +4,7 @@ import unittest
 from itertools import product
 
 from countscribe.pieces import is_normal, normal
-from helper import FAR, answered_false, chances, is_number, refused, run_example, some_word, strange_values, told
+from helper import FAR, answered_false, chances, is_number, refused, run_example, some_pieces, strange_values, told, word_at
 
 EXAMPLE = """
 from countscribe.pieces import is_normal, normal
@@ -17,17 +17,6 @@ normal(2, [("ab", (0, 1, 0)), ("ab", (1, 0, 0)), ("b", (0, 0, 1))])
 [is_normal(1, [("ab", (0, 1)), ("a", (1, 0))]), is_normal(1, [("b", (1, 0)), ("ab", (0, 1))]), is_normal(0, [])]
 # [True, False, True]
 """
-
-
-def word_at(pieces, point):
-    found = []
-    for word, form in pieces:
-        found.append(word * (form[0] + sum([number * count for number, count in zip(form[1:], point)])))
-    return "".join(found)
-
-
-def plain_measure(pieces):
-    return sum([len(word) * (form[0] + (1 if any(form[1:]) else 0)) for word, form in pieces])
 
 
 def is_root(word):
@@ -79,14 +68,6 @@ def one_step(many, pieces, chance):
                 moved = [(word[:-1], one), (later[-1] + later[:-1], later_form), (later[-1], one)]
                 found.append(ahead + moved + behind[1:])
     return chance.choice(found) if found else None
-
-
-def some_pieces(chance, many, most, letters="ab"):
-    found = []
-    for _ in range(chance.randint(0, most)):
-        form = tuple([chance.choice([0, 0, 0, 1, 2]) for _ in range(many + 1)])
-        found.append((some_word(chance, letters, 0, chance.choice([1, 2, 4])), form))
-    return found
 
 
 def is_good_piece(many, item):

@@ -1,0 +1,51 @@
+"""The names, arguments and methods of the interface, each defined in the file under which it is listed."""
+
+import importlib
+import inspect
+import unittest
+
+FUNCTIONS = {
+    "words": ["is_word(value)", "turned(word, by)", "root(word)", "period(word)", "common_start(one, other)",
+              "common_end(one, other)", "goes_on(word, text)", "places(part, text)", "least_turn(word)"],
+    "kept": ["KeptWord(pieces)", "joined_kept(one, other)", "mirrored_kept(kept)"],
+    "keptorder": ["agree(one, other)", "compare(one, other)", "same_kept(one, other)", "many_places(part, kept)",
+                  "kept_place(part, kept, number)", "kept_root(kept)", "turned_kept(kept, by)", "least_kept_turn(kept)",
+                  "is_turn_of(one, other)"],
+    "forms": ["is_form(many, value)", "value(form, point)", "added(one, other)", "scaled(number, form)", "below(one, other)",
+              "inserted(form, many, forms)"],
+    "pieces": ["normal(many, pieces)", "is_normal(many, value)"],
+    "texts": ["OpenText(many, pieces)", "size(text)", "spread(text)", "unknowns(text)", "written(text, point)",
+              "kept(text, point)", "length(text)", "letters(text, letter)", "joined(one, other)", "repeated(text, times)",
+              "mirrored(text)", "mapped(text, images)", "replaced(text, many, forms)"],
+    "alike": ["decisive(one, other)", "parting(one, other)"],
+    "shifts": ["later(text, at, by)", "earlier(text, at)", "thinned(text, at, by)", "first(text, at)"],
+    "rings": ["same_ring(one, other)", "ring_point(one, other)", "ring(text)"],
+    "places": ["is_open_place(text, value)", "how_many_places(text)", "open_place(text, number)", "place_number(text, place)",
+               "place_below(text, form)", "place_above(text, form)"],
+    "cuts": ["cut(text, place)", "parts(text, places)"],
+}
+METHODS = {
+    ("kept", "KeptWord"): ["pieces(self)", "length(self)", "letter(self, at)", "part(self, low, high)", "plain(self)"],
+    ("texts", "OpenText"): ["many(self)", "pieces(self)"],
+}
+
+
+class InterfaceTest(unittest.TestCase):
+    def test_functions_and_classes(self):
+        for name, signatures in FUNCTIONS.items():
+            module = importlib.import_module("countscribe." + name)
+            for signature in signatures:
+                found = getattr(module, signature.split("(")[0])
+                self.assertEqual(found.__module__, "countscribe." + name)
+                self.assertEqual(found.__name__ + str(inspect.signature(found)), signature)
+
+    def test_methods(self):
+        for (name, owner), signatures in METHODS.items():
+            held = getattr(importlib.import_module("countscribe." + name), owner)
+            for signature in signatures:
+                found = vars(held)[signature.split("(")[0]]
+                self.assertEqual(found.__name__ + str(inspect.signature(found)), signature)
+
+
+if __name__ == "__main__":
+    unittest.main()
