@@ -182,15 +182,11 @@ def least_above(frame, form):
         done += 1
     at = max(form[0], frame.floors[done])
     low = fewest_done(frame, at)
-    none = plain_form(0, frame.unknowns)
     if low >= done:
-        return low, none, at
+        return low, plain_form(0, frame.unknowns), at
     size = len(frame.words[done - 1])
     rows = list(zip(form[1:], frame.sums[done - 1][1:]))
     part = [max(0, (number - start + size - 1) // size) for number, start in rows]
-    # As much as all of the power is no part of it.
-    if (0,) + tuple(part) == frame.forms[done - 1]:
-        return done, none, at
     return done - 1, (0,) + tuple(part), at
 
 
