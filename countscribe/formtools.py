@@ -48,6 +48,16 @@ def form_sum(one, other):
     return tuple([left + right for left, right in zip(one, other)])
 
 
+def form_difference(one, other):
+    """What is left of a form when another one, which is at most it, is taken off."""
+    return tuple([left - right for left, right in zip(one, other)])
+
+
+def lesser_form(one, other):
+    """The form that has the lesser number of two forms at each place."""
+    return tuple([min(left, right) for left, right in zip(one, other)])
+
+
 def form_times(number, form):
     """A form, taken a number of times."""
     return tuple([number * own for own in form])

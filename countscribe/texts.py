@@ -35,6 +35,13 @@ def need_text(value):
         raise InvalidText(value)
 
 
+def need_text_along(value):
+    """Refuse what is no open text for one unknown."""
+    need_text(value)
+    if value.many() != 1:
+        raise InvalidText(value)
+
+
 def need_like_texts(one, other):
     """Refuse what are no two open texts for equally many unknowns."""
     need_text(one)

@@ -6,6 +6,7 @@ from itertools import product
 
 from countscribe import errors
 from countscribe.kept import KeptWord
+from countscribe.lines import Line
 from countscribe.pieces import normal
 from countscribe.texts import OpenText
 
@@ -22,6 +23,9 @@ def strange_values():
         (), (0,), (1,), (0, 0), (0, 1), (1, 0, 0), (0, 1, 2, 3), (0, 1, 2, 3, 4), (True,), (0, True), (-1, 0), (None,),
         ("a",), ("a", 1), ("a", (1,)), ("a", "a"), ((), ()), ([], []),
         {}, {"a": "b"}, {"a": 1}, {1: "a"}, {"": ""}, {(0, 1): []},
+        ([1], 3, 2), ([], None, 1), ([], 1, 0), ([], None, 0), ([True], 1, 0), ([], ["a", "a"]), (["a"], ["a"]), ([], ["a"]), ([], [None]),
+        ([], [], []), ([], [5], []), ([0], [1], [0]), ([1], [4, 5], [1]), ([10 ** 30], [1], [0]), ([0, 0], [1], [0, 0]), [[0]],
+        Line([], []), Line([1], [2]), Line([0, 0], [1, 1]),
         KeptWord([]), KeptWord([("ab", FAR)]), OpenText(0, []), OpenText(1, [("ab", (1, FAR))]), errors.InvalidWord("a"), errors.NothingToUndo(),
     ]
 

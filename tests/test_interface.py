@@ -23,10 +23,22 @@ FUNCTIONS = {
     "places": ["is_open_place(text, value)", "how_many_places(text)", "open_place(text, number)", "place_number(text, place)",
                "place_below(text, form)", "place_above(text, form)"],
     "cuts": ["cut(text, place)", "parts(text, places)"],
+    "roots": ["greatest_root(text)", "common_root(one, other)"],
+    "beginnings": ["begins(text, start)", "ends(text, end)", "common_beginning(one, other)", "common_ending(one, other)",
+                   "stripped(one, other)"],
+    "runs": ["is_run(value)", "least_run(first, start, slope)", "run_value(run, number)", "run_sum(one, other)",
+             "run_lesser(one, other)", "run_meetings(one, other)", "is_wheel(value)", "least_wheel(first, turn)",
+             "wheel_value(wheel, number)"],
+    "growths": ["is_growth(many, value)", "least_growth(limits, values, slopes)", "growth_value(growth, point)",
+                "growth_along(growth, line)"],
+    "lines": ["Line(base, step)", "point_at(line, number)", "place_on(line, point)", "along(text, line)",
+              "letters_along(text, place)"],
+    "order": ["agreement(one, other)", "order_along(one, other)", "ranks_along(texts)"],
 }
 METHODS = {
     ("kept", "KeptWord"): ["pieces(self)", "length(self)", "letter(self, at)", "part(self, low, high)", "plain(self)"],
     ("texts", "OpenText"): ["many(self)", "pieces(self)"],
+    ("lines", "Line"): ["many(self)", "base(self)", "step(self)"],
 }
 
 
