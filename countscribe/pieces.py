@@ -2,7 +2,7 @@
 
 from countscribe.checks import need_many
 from countscribe.errors import InvalidPiece, InvalidPieces, TooLong
-from countscribe.piecetools import MOST_MEASURE, MOST_PIECES, is_piece, measure, normal_pieces
+from countscribe.piecetools import MOST_MEASURE, MOST_PIECES, is_piece, is_piece_list, measure, normal_pieces
 
 
 def need_pieces(many, pieces):
@@ -31,9 +31,5 @@ def normal(many, pieces):
 def is_normal(many, value):
     """Whether a value is a normal list of pieces for `many` unknowns."""
     need_many(many)
-    if not isinstance(value, list) or len(value) > MOST_PIECES:
-        return False
-    if not all([is_piece(many, item) for item in value]) or measure(value) > MOST_MEASURE:
-        return False
     # For each list there is exactly one normal list that writes the same.
-    return normal_pieces(value) == value
+    return is_piece_list(many, value) and normal_pieces(value) == value

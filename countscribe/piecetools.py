@@ -16,6 +16,13 @@ def is_piece(many, value):
     return is_lettered(value[0], MOST_PIECE_LETTERS) and is_form_for(many, value[1])
 
 
+def is_piece_list(many, value):
+    """Whether a value is a list of pieces for so many unknowns, within all limits."""
+    if not isinstance(value, list) or len(value) > MOST_PIECES:
+        return False
+    return all([is_piece(many, item) for item in value]) and measure(value) <= MOST_MEASURE
+
+
 def is_open_form(form):
     """Whether an unknown stands in a form."""
     return any(form[1:])

@@ -59,6 +59,15 @@ def root_size(word):
     return len(word) if len(word) % step else step
 
 
+def root_sizes(word):
+    """For each beginning of a word, the shortest one first, the number of letters of its root."""
+    sizes = []
+    for size, border in enumerate(border_sizes(word), start=1):
+        step = size - border
+        sizes.append(size if size % step else step)
+    return sizes
+
+
 def standing_places(part, text):
     """All places of a text at which a word that is not empty begins."""
     found = []

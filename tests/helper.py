@@ -5,6 +5,7 @@ import random
 from itertools import product
 
 from countscribe import errors
+from countscribe.costs import Prices
 from countscribe.kept import KeptWord
 from countscribe.lines import Line
 from countscribe.pieces import normal
@@ -25,7 +26,7 @@ def strange_values():
         {}, {"a": "b"}, {"a": 1}, {1: "a"}, {"": ""}, {(0, 1): []},
         ([1], 3, 2), ([], None, 1), ([], 1, 0), ([], None, 0), ([True], 1, 0), ([], ["a", "a"]), (["a"], ["a"]), ([], ["a"]), ([], [None]),
         ([], [], []), ([], [5], []), ([0], [1], [0]), ([1], [4, 5], [1]), ([10 ** 30], [1], [0]), ([0, 0], [1], [0, 0]), [[0]],
-        Line([], []), Line([1], [2]), Line([0, 0], [1, 1]),
+        Line([], []), Line([1], [2]), Line([0, 0], [1, 1]), Prices(), Prices(letter=7, sign=0), (1, 1, 1, 1), (1, [], []), (0, [], [0]),
         KeptWord([]), KeptWord([("ab", FAR)]), OpenText(0, []), OpenText(1, [("ab", (1, FAR))]), errors.InvalidWord("a"), errors.NothingToUndo(),
     ]
 

@@ -33,11 +33,21 @@ FUNCTIONS = {
                 "growth_along(growth, line)"],
     "lines": ["Line(base, step)", "point_at(line, number)", "place_on(line, point)", "along(text, line)",
               "letters_along(text, place)"],
+    "occurrences": ["occurrences(text, part)", "place_along(text, part, number)", "last_along(text, part, number)",
+                    "standing_at(text, part)", "missing_at(text, part)", "parts_of(text, number)"],
+    "costs": ["Prices(*, letter=1, sign=1, unknown=1, number=1)", "vector(many, pieces)", "cost(many, pieces, prices=None)"],
+    "plainwriters": ["least_plain(word, prices=None)", "plain_front(word)", "plain_paper(word, prices=None)",
+                     "is_plain_paper(word, prices, value)"],
+    "lean": ["spots(text)", "placed(text, starts, copies)", "is_lean(text, value)", "places_of(text, value)", "leaned(many, pieces)"],
+    "shortest": ["least_cost(text, prices=None)", "least_writer(text, prices=None)", "writer_paper(text, prices=None)",
+                 "is_writer_paper(text, prices, value)"],
+    "fronts": ["front(text)", "front_writer(text, vector)"],
     "order": ["agreement(one, other)", "order_along(one, other)", "ranks_along(texts)"],
 }
 METHODS = {
     ("kept", "KeptWord"): ["pieces(self)", "length(self)", "letter(self, at)", "part(self, low, high)", "plain(self)"],
     ("texts", "OpenText"): ["many(self)", "pieces(self)"],
+    ("costs", "Prices"): ["of(self, vector)"],
     ("lines", "Line"): ["many(self)", "base(self)", "step(self)"],
 }
 
