@@ -5,9 +5,9 @@ A step is a tuple `(cost, piece, high)`: a piece that leads to a place, and what
 is kept as the cost of the best way, how many pieces it has, the first of these, and the row and the place behind it.
 """
 
+from countscribe.costs import piece_vector
 from countscribe.formtools import plain_form
 from countscribe.piecetools import fixed_piece
-from countscribe.costs import piece_vector
 from countscribe.wordtools import root_sizes, turned_word
 
 
@@ -15,20 +15,15 @@ def plain_steps(bare, many, prices):
     """For each place the best steps, by pieces in which no unknown stands, to each later place."""
     rows = []
     for low in range(len(bare) + 1):
-        rest = bare[low:]
-        rows.append([plain_step(rest, size, low, many, prices) for size in enumerate(root_sizes(rest), start=1)])
+        rest, steps = bare[low:], []
+        for size, root in enumerate(root_sizes(rest), start=1):
+            pieces = [fixed_piece(rest[:size], many)]
+            if root < size:
+                pieces.append((rest[:root], plain_form(size // root, many)))
+            # Of two that cost the same, the one with the shorter word comes first in order.
+            steps.append(min([priced_step(piece, low + size, prices) for piece in pieces]))
+        rows.append(steps)
     return rows
-
-
-def plain_step(rest, sizes, low, many, prices):
-    """The best step by so many letters, of which the first ones are the root."""
-    size, root = sizes
-    whole = fixed_piece(rest[:size], many)
-    step = priced_step(whole, low + size, prices)
-    if root == size:
-        return step
-    # Of two that cost the same, the shorter word comes first in order.
-    return min(step, priced_step((rest[:root], plain_form(size // root, many)), low + size, prices))
 
 
 def priced_step(piece, high, prices):

@@ -4,7 +4,7 @@ from itertools import product
 
 from countscribe.pieces import normal
 from countscribe.texts import OpenText
-from helper import small_words, value_at
+from helper import FAR, chances, small_words, some_word, value_at
 
 
 def plain_writers(word):
@@ -157,4 +157,22 @@ def small_groups():
             most = max([max(form[1:], default=0) for _, form in text.pieces()], default=0)
             if sum([len(word) for word, _ in text.pieces()]) <= letters and len(bare_word(text)) <= constants and most <= numbers:
                 found.append((text, rows))
+    return found
+
+
+def long_texts(size):
+    """Texts with bare words of so many letters and 12 powers."""
+    chance = chances(200)
+    fib, ahead = "a", "b"
+    while len(fib) < size:
+        fib, ahead = fib + ahead, fib
+    found = []
+    step = size // 12
+    for bare, words in [("a" * size, ["a", "b", "ab"]), (fib[:size], ["ab", "aba", "abaab"]), ("abc" * size, ["abc", "abcab", "b"]), ("ab" * size, ["ab", "abb", "a"]),
+                        (some_word(chance, "ab", size, size), ["a", "b", "ab"]), (some_word(chance, "abcdefghij", size, size), ["a", "xyz", "c"])]:
+        pieces = []
+        for k in range(12):
+            pieces.append((words[k % 3], (0, chance.randint(0, 3), 1, FAR)))
+            pieces.append((bare[step * k:step * k + step] if k < 11 else bare[11 * step:size], (1, 0, 0, 0)))
+        found.append(OpenText(3, pieces))
     return found

@@ -5,7 +5,7 @@ import unittest
 from countscribe.beginnings import begins, common_beginning, common_ending, ends, stripped
 from countscribe.cuts import cut
 from countscribe.texts import OpenText, joined, length, mirrored, written
-from helper import FAR, all_points, chances, refused, run_example, some_pieces, some_text, texts_within, told
+from helper import all_points, chances, refused, run_example, some_pieces, some_text, texts_within, told
 from plainplaces import all_splits, is_at_most, plain_places
 
 EXAMPLE = """

@@ -9,7 +9,7 @@ from countscribe.plainwriters import plain_front
 from countscribe.shortest import least_cost
 from countscribe.texts import OpenText, mapped, mirrored, replaced
 from helper import FAR, chances, is_number, refused, run_example, some_text, some_word, told
-from plainways import all_lean, bare_word, plain_least, small_groups, small_texts, vector_of
+from plainways import all_lean, bare_word, long_texts, plain_least, small_groups, small_texts, vector_of
 
 EXAMPLE = """
 from countscribe.fronts import front
@@ -22,21 +22,6 @@ text, small = OpenText(2, [("ab", (1, 1, 0)), ("b", (0, 0, 1))]), OpenText(1, [(
 
 def is_text(value):
     return isinstance(value, OpenText)
-
-
-def long_texts():
-    """Texts with bare words of 40 letters and 12 powers."""
-    chance = chances(190)
-    found = []
-    for bare, words in [("a" * 40, ["a", "b", "ab"]), ("abaababaabaababaababaabaababaabaababaaba", ["ab", "aba", "abaab"]), ("ab" * 20, ["ab", "abb", "a"]),
-                        (some_word(chance, "ab", 40, 40), ["a", "b", "ab"]), (some_word(chance, "abcdefghij", 40, 40), ["a", "xyz", "c"])]:
-        pieces = []
-        for k in range(12):
-            pieces.append((words[k % len(words)], (0, chance.randint(0, 3), 1, FAR)))
-            pieces.append((bare[3 * k:3 * k + 3] if k < 11 else bare[33:], (1, 0, 0, 0)))
-        found.append(OpenText(3, pieces))
-    found.append(OpenText(1, [("a" if k % 2 else "bcd", (3 if k % 2 else 1, 1)) for k in range(12)] + [("a", (4, 0))]))
-    return found
 
 
 class ExampleTest(unittest.TestCase):
@@ -110,7 +95,8 @@ class EdgesTest(unittest.TestCase):
         self.assertEqual([front(text), front_writer(text, (2, 0, 0, 0)), front_writer(text, (2, 1, 0, 1))], [[(2, 0, 0, 0)], [("ab", (1, 0))], None])
 
     def test_near_the_limits(self):
-        for text in long_texts():
+        repeats = [("a" if k % 2 else "bcd", (3 if k % 2 else 1, 0, 1, 0)) for k in range(12)] + [("a", (4, 0, 0, 0))]
+        for text in long_texts(40) + [OpenText(3, repeats)]:
             self.assertEqual([len(spots(text)), len(bare_word(text))], [12, 40])
             found = front(text)
             self.assertEqual(found, sorted(found))

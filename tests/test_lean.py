@@ -8,7 +8,7 @@ from countscribe.pieces import normal
 from countscribe.texts import OpenText, written
 from helper import FAR, all_points, answered_false, chances, is_number, refused, run_example, some_pieces, some_text, some_word, strange_values, told
 from plainways import (
-    all_lean, all_lists, all_placed, bare_word, by_text, is_as_great, is_plain_lean, plain_spots, small_texts, vector_of,
+    all_lean, all_lists, all_placed, bare_word, by_text, is_as_great, is_plain_lean, long_texts, plain_spots, small_texts, vector_of,
 )
 
 EXAMPLE = """
@@ -161,6 +161,29 @@ class IsLeanTest(unittest.TestCase):
                 self.assertIs(is_lean(text, [value]), False)
                 self.assertIs(is_lean(text, [(value, (0, 1))]), False)
                 self.assertIs(is_lean(text, [("ab", value)]), value == (0, 1) and value[1] is not True and text.many() == 1)
+
+
+class LongTextsTest(unittest.TestCase):
+    def test_near_the_limits(self):
+        chance = chances(176)
+        for text in long_texts(120):
+            self.assertEqual([len(spots(text)), len(bare_word(text))], [12, 120])
+            self.assertEqual(spots(text), plain_spots(text))
+            for _ in range(10):
+                starts, copies, at = [], [], 0
+                for word, _, place, reach in spots(text):
+                    starts.append(chance.choice([max(place, at)] * 3 + [max(place, at, reach - len(word))]))
+                    copies.append(chance.randint(0, max(0, reach - starts[-1]) // len(word)) if chance.random() < 0.3 else 0)
+                    at = starts[-1] + copies[-1] * len(word)
+                found = placed(text, starts, copies)
+                right = all([start <= reach for start, (_, _, _, reach) in zip(starts, spots(text))])
+                self.assertIs(found is not None, right)
+                if right:
+                    self.assertEqual([is_lean(text, found), places_of(text, found)], [True, (starts, copies)])
+                    self.assertEqual(leaned(3, found), found)
+            beyond = [reach + 1 for _, _, _, reach in spots(text)]
+            self.assertIsNone(placed(text, beyond, [0] * 12))
+            self.assertIsNone(placed(text, [place for _, _, place, _ in spots(text)], [121] * 12))
 
 
 class LeanedTest(unittest.TestCase):

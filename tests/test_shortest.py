@@ -9,7 +9,7 @@ from countscribe.plainwriters import least_plain
 from countscribe.shortest import is_writer_paper, least_cost, least_writer, writer_paper
 from countscribe.texts import OpenText, joined, written
 from helper import FAR, all_points, answered_false, chances, refused, run_example, some_text, some_word, strange_values, told
-from plainways import all_lean, bare_word, plain_spots, small_groups, small_texts, vector_of
+from plainways import all_lean, bare_word, long_texts, plain_spots, small_groups, small_texts, vector_of
 
 EXAMPLE = """
 from countscribe.costs import Prices
@@ -54,23 +54,6 @@ def is_bounding(text, prices, rows):
                 if rows[index + 1][high] - rows[index][low] > most:
                     return False
     return True
-
-
-def long_texts():
-    """Texts with bare words of 120 letters and 12 powers."""
-    chance = chances(180)
-    fib, ahead = "a", "b"
-    while len(fib) < 120:
-        fib, ahead = fib + ahead, fib
-    found = []
-    for bare, words in [("a" * 120, ["a", "b", "ab"]), (fib[:120], ["ab", "aba", "abaab"]), ("abc" * 40, ["abc", "abcab", "b"]),
-                        (some_word(chance, "ab", 120, 120), ["a", "b", "ab"]), (some_word(chance, "abcdefghij", 120, 120), ["a", "xyz", "c"])]:
-        pieces = []
-        for k in range(12):
-            pieces.append((words[k % len(words)], (0, chance.randint(0, 3), 1, FAR)))
-            pieces.append((bare[10 * k:10 * k + 10], (1, 0, 0, 0)))
-        found.append(OpenText(3, pieces))
-    return found
 
 
 class ExampleTest(unittest.TestCase):
@@ -222,7 +205,7 @@ class EdgesTest(unittest.TestCase):
         self.assertEqual([least_cost(text), least_writer(text)], [8, [("ab", (0, FAR, 0, 2)), ("a", (0, 0, 1, 0))]])
 
     def test_near_the_limits(self):
-        for text in long_texts():
+        for text in long_texts(120):
             self.assertEqual([len(spots(text)), len(bare_word(text))], [12, 120])
             for prices in [None, Prices(letter=FAR, sign=3, unknown=FAR, number=10 ** 28)]:
                 paper = writer_paper(text, prices)
