@@ -58,6 +58,11 @@ def lesser_form(one, other):
     return tuple([min(left, right) for left, right in zip(one, other)])
 
 
+def greater_form(one, other):
+    """The form that has the greater number of two forms at each place."""
+    return tuple([max(left, right) for left, right in zip(one, other)])
+
+
 def form_times(number, form):
     """A form, taken a number of times."""
     return tuple([number * own for own in form])

@@ -87,6 +87,11 @@ def written(text, point):
     total = form_value(length(text), point)
     if total > MOST_LETTERS:
         raise TooLong(total)
+    return word_at(text, point)
+
+
+def word_at(text, point):
+    """The word that is written at a point, however long it is."""
     return "".join([word * times for word, times in counted(text, point)])
 
 

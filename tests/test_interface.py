@@ -42,6 +42,14 @@ FUNCTIONS = {
     "shortest": ["least_cost(text, prices=None)", "least_writer(text, prices=None)", "writer_paper(text, prices=None)",
                  "is_writer_paper(text, prices, value)"],
     "fronts": ["front(text)", "front_writer(text, vector)"],
+    "leancounts": ["how_many_lean(text)", "lean_by_number(text, number)", "number_of_lean(text, value)"],
+    "shared": ["agreeing(one, other)", "shared(one, other)", "shared_text(one, other)"],
+    "pointsof": ["points_of(text, word)", "shared_words(texts, most)"],
+    "readback": ["reading_point(many, size, spread)", "read_back(many, size, spread, word)", "read_kept(many, size, spread, kept)"],
+    "marks": ["in_order(many, one, other)", "torn_points(many, one, other)", "least_place(many, one, other)",
+              "greatest_place(many, one, other)", "mark_moved(many, place, side, start, end, length)"],
+    "edits": ["spliced(text, start, end, given)", "put(text, place, given)", "taken(text, start, end)", "least_splice(old, new)",
+              "first_start(old, new)", "filling(old, new, start, end)"],
     "order": ["agreement(one, other)", "order_along(one, other)", "ranks_along(texts)"],
 }
 METHODS = {
