@@ -6,8 +6,10 @@ from itertools import product
 
 from countscribe import errors
 from countscribe.costs import Prices
+from countscribe.desks import Desk
 from countscribe.kept import KeptWord
 from countscribe.lines import Line
+from countscribe.patches import Patch
 from countscribe.pieces import normal
 from countscribe.texts import OpenText
 
@@ -28,6 +30,8 @@ def strange_values():
         ([], [], []), ([], [5], []), ([0], [1], [0]), ([1], [4, 5], [1]), ([10 ** 30], [1], [0]), ([0, 0], [1], [0, 0]), [[0]],
         Line([], []), Line([1], [2]), Line([0, 0], [1, 1]), Prices(), Prices(letter=7, sign=0), (1, 1, 1, 1), (1, [], []), (0, [], [0]),
         KeptWord([]), KeptWord([("ab", FAR)]), OpenText(0, []), OpenText(1, [("ab", (1, FAR))]), errors.InvalidWord("a"), errors.NothingToUndo(),
+        Patch(OpenText(1, []), []), Patch(OpenText(0, [("a", (1,))]), [((0,), (1,), OpenText(0, []))]), Desk(OpenText(0, [])), ((0,), (0,), OpenText(0, [])), "0", "01", "n0", "a*n0",
+        [([], "")], [([0], "a")], [([1], "a"), ([0], "")], [([0], "a" * 21)], [([0, 0], "ab")], [([1, 1, 1], "")], [([1], "a")] * 41,
     ]
 
 
@@ -49,6 +53,17 @@ def told(test, name, field, call, *arguments, **named):
             test.assertNotIsInstance(error.value, bool)
         else:
             test.assertIs(error.value, field, kind_of(arguments))
+        return
+    test.fail("%s returned %s instead of raising %s" % (kind_of(arguments), kind_of(result), name))
+
+
+def told_two(test, name, one, other, call, *arguments, **named):
+    """Check that a call raises just this error, with these two things as its fields."""
+    try:
+        result = call(*arguments, **named)
+    except errors.CountError as error:
+        test.assertEqual(error.__class__.__name__, name, kind_of(arguments))
+        test.assertEqual((error.one, error.other), (one, other), kind_of(arguments))
         return
     test.fail("%s returned %s instead of raising %s" % (kind_of(arguments), kind_of(result), name))
 

@@ -51,11 +51,13 @@ def texts_of_weight(many, weight, letters):
     words = [word for word in small_words(letters, weight) if word]
     pieces = [(word, (1,) + (0,) * many) for word in words]
     pieces.extend([(word, form) for word in words for form in forms_of_digits(many, weight - 1)])
-    pieces = [(plain_weight([piece]), piece) for piece in pieces]
+    rooms = [[] for _ in range(weight + 1)]
+    for piece in pieces:
+        for left in range(plain_weight([piece]), weight + 1):
+            rooms[left].append(piece)
 
     def steps_for(row):
-        left = weight - plain_weight(row)
-        return [piece for own, piece in pieces if own <= left]
+        return rooms[weight - plain_weight(row)]
 
     rows = sorted([(plain_weight(row), row) for row in lists_from(many, steps_for)])
     return [OpenText(many, row) for _, row in rows]

@@ -2,12 +2,11 @@
 
 import unittest
 
-from countscribe import errors
 from countscribe.beginnings import common_beginning, common_ending
 from countscribe.cuts import parts
 from countscribe.edits import filling, first_start, least_splice, put, spliced, taken
 from countscribe.texts import OpenText, joined, length, written
-from helper import FAR, all_points, chances, is_number, kind_of, refused, run_example, some_text, texts_within, told, value_at, word_at
+from helper import FAR, all_points, chances, is_number, refused, run_example, some_text, texts_within, told, told_two, value_at, word_at
 from plainplaces import is_at_most, plain_places
 
 EXAMPLE = """
@@ -42,17 +41,6 @@ def ranges(text):
     """All pairs of open places of a text, the first at most the second."""
     places = plain_places(text)
     return [(start, end) for start in places for end in places if is_at_most(start, end)]
-
-
-def torn_range(test, start, end, call, *arguments):
-    """Check that a call tells these two places as not in order."""
-    try:
-        call(*arguments)
-    except errors.NotInOrder as error:
-        test.assertIs(error.one, start)
-        test.assertIs(error.other, end)
-        return
-    test.fail(kind_of(arguments))
 
 
 class ExampleTest(unittest.TestCase):
@@ -246,9 +234,9 @@ class WrongInputsTest(unittest.TestCase):
     def test_places_not_in_order(self):
         text = OpenText(2, [("a", (0, 2, 2)), ("c", (1, 0, 0))])
         for start, end in [((0, 2, 0), (0, 1, 1)), ((0, 1, 0), (0, 0, 1)), ((1, 2, 2), (0, 0, 0)), ((0, 2, 2), (0, 2, 1))]:
-            torn_range(self, start, end, spliced, text, start, end, None)
-            torn_range(self, start, end, taken, text, start, end)
-            torn_range(self, start, end, filling, text, text, start, end)
+            told_two(self, "NotInOrder", start, end, spliced, text, start, end, None)
+            told_two(self, "NotInOrder", start, end, taken, text, start, end)
+            told_two(self, "NotInOrder", start, end, filling, text, text, start, end)
 
     def test_the_first_wrong_one_is_told(self):
         text = OpenText(1, [("ab", (0, 2)), ("c", (1, 0))])

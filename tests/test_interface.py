@@ -50,6 +50,14 @@ FUNCTIONS = {
               "greatest_place(many, one, other)", "mark_moved(many, place, side, start, end, length)"],
     "edits": ["spliced(text, start, end, given)", "put(text, place, given)", "taken(text, start, end)", "least_splice(old, new)",
               "first_start(old, new)", "filling(old, new, start, end)"],
+    "patches": ["Patch(text, splices)", "patches_part(one, other)", "undone(patch)", "then(first, second)", "merged(one, other)",
+                "after(one, other, first)"],
+    "desks": ["Desk(text)"],
+    "lineforms": ["form_word(form)", "read_form(many, line)", "line_of(text)", "read_line(many, line)", "wrong_sign(many, line)"],
+    "numbering": ["weight(text)", "how_many(many, weight)", "number_of(text)", "numbered(many, number)"],
+    "bits": ["bits_of(text)", "read_bits(many, bits)"],
+    "examples": ["fits(text, examples)", "simplest(many, examples, most)"],
+    "learning": ["how_many_fit(many, examples)", "fitting(many, examples)", "next_point(many, examples)"],
     "order": ["agreement(one, other)", "order_along(one, other)", "ranks_along(texts)"],
 }
 METHODS = {
@@ -57,6 +65,9 @@ METHODS = {
     ("texts", "OpenText"): ["many(self)", "pieces(self)"],
     ("costs", "Prices"): ["of(self, vector)"],
     ("lines", "Line"): ["many(self)", "base(self)", "step(self)"],
+    ("patches", "Patch"): ["text(self)", "splices(self)", "result(self)"],
+    ("desks", "Desk"): ["text(self)", "marks(self)", "splice(self, start, end, given)", "mark(self, name, place, side)", "unmark(self, name)",
+                        "undo(self)", "redo(self)", "log(self)", "net(self, since)", "bring(self, patch, since)", "copy(self)"],
 }
 
 

@@ -3,10 +3,9 @@
 import unittest
 from itertools import product
 
-from countscribe import errors
 from countscribe.marks import greatest_place, in_order, least_place, mark_moved, torn_points
 from countscribe.places import is_open_place
-from helper import FAR, all_points, chances, is_number, kind_of, refused, run_example, some_text, told, value_at
+from helper import FAR, all_points, chances, is_number, refused, run_example, some_text, told, told_two, value_at
 from plainplaces import is_at_most, plain_places
 
 EXAMPLE = """
@@ -22,17 +21,6 @@ def is_form(value, many):
 
 def some_form(chance, many, most):
     return tuple([chance.randint(0, most) for _ in range(many + 1)])
-
-
-def torn_order(test, one, other, call, *arguments):
-    """Check that a call tells these two places as not in order."""
-    try:
-        call(*arguments)
-    except errors.NotInOrder as error:
-        test.assertIs(error.one, one)
-        test.assertIs(error.other, other)
-        return
-    test.fail(kind_of(arguments))
 
 
 class ExampleTest(unittest.TestCase):
@@ -183,7 +171,7 @@ class WrongInputsTest(unittest.TestCase):
         for side in ["Left", "lef", "left ", "right\n", "", ["left"], ("left",)]:
             told(self, "InvalidSide", side, mark_moved, 1, form, side, form, form, form)
         for start, end in [((1, 1), (0, 1)), ((0, 1), (1, 0)), ((FAR, 0), (0, FAR))]:
-            torn_order(self, start, end, mark_moved, 1, form, "left", start, end, None)
+            told_two(self, "NotInOrder", start, end, mark_moved, 1, form, "left", start, end, None)
 
     def test_by_names(self):
         self.assertEqual([in_order(many=1, one=(1, 0), other=(0, 1)), torn_points(many=1, one=(1, 0), other=(0, 1)), least_place(many=1, one=(1, 0), other=(0, 1)), greatest_place(many=1, one=(1, 0), other=(0, 1))],
