@@ -104,7 +104,9 @@ def state_behind(many, state, sign):
         return NAME
     if sign in DIGITS:
         return NUMBER if state == NUMBER else WRONG
-    return JOINT if sign == "+" else BLANK if sign == " " else WRONG
+    if sign == "+":
+        return JOINT
+    return BLANK if sign == " " else WRONG
 
 
 def word_state(state, sign):

@@ -3,7 +3,7 @@
 import unittest
 
 from countscribe.pointsof import points_of, shared_words
-from countscribe.texts import OpenText, length, unknowns, written
+from countscribe.texts import OpenText, length, mirrored, unknowns, written
 from helper import FAR, all_points, chances, is_number, refused, run_example, small_words, some_text, strange_values, told, word_at
 
 EXAMPLE = """
@@ -52,7 +52,7 @@ class PointsOfTest(unittest.TestCase):
                 found = points_of(text, word)
                 self.assertEqual(found, [point for point, own in rows if own == word], (text.pieces(), word))
                 several += len(found) > 1
-        self.assertGreater(several, 40)
+        self.assertGreater(several, 20)
 
     def test_no_unknowns(self):
         text = OpenText(0, [("ab", (2,))])
@@ -91,6 +91,8 @@ class SharedWordsTest(unittest.TestCase):
         found, several = 0, 0
         for _ in range(600):
             texts = bound_texts(chance, chance.randint(1, 4), chance.choice(["a", "ab", "aaab"]))
+            if chance.random() < 0.4:
+                texts = texts[:2] + [mirrored(texts[0])]
             most = chance.randint(0, 5)
             words = set(small_words("ab", most))
             for text in texts:
@@ -99,7 +101,7 @@ class SharedWordsTest(unittest.TestCase):
             self.assertEqual(result, sorted(words, key=lambda word: (len(word), word)), [text.pieces() for text in texts])
             found += len(result) > 0
             several += len(result) > 2
-        self.assertTrue(found > 150 and several > 15, (found, several))
+        self.assertTrue(found > 100 and several > 3, (found, several))
 
     def test_the_same_text_twice(self):
         text = OpenText(1, [("ab", (1, 2))])
